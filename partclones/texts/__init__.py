@@ -1,0 +1,1 @@
+"""Lines, texts, their matchings, edits, chunks and merges."""

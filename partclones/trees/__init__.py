@@ -1,0 +1,1 @@
+"""Paths, trees, their changes, puts, choices and merges."""

@@ -1,0 +1,1 @@
+"""Names, orders of versions, and what is common to groups of versions."""
