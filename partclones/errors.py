@@ -9,7 +9,6 @@ class BadText(PartError):
     """The item at a place of a text is not a line."""
 
     def __init__(self, place):
-        super().__init__(f"no line of a text at place {place}")
         self.place = place
 
 
@@ -17,7 +16,6 @@ class BadEdit(PartError):
     """The item at a place of a list is not an edit, or does not fit."""
 
     def __init__(self, place):
-        super().__init__(f"no fitting edit at place {place}")
         self.place = place
 
 
@@ -25,7 +23,6 @@ class BadTree(PartError):
     """A path of a tree, or the line at a place of its text, is wrong."""
 
     def __init__(self, path, place):
-        super().__init__(f"no part of a tree: path {path!r}, place {place}")
         self.path = path
         self.place = place
 
@@ -34,7 +31,6 @@ class Misfit(PartError):
     """The item at a place does not fit what it is applied to."""
 
     def __init__(self, place):
-        super().__init__(f"misfit at place {place}")
         self.place = place
 
 
@@ -42,7 +38,6 @@ class BadPut(PartError):
     """The item at a place is not a put."""
 
     def __init__(self, place):
-        super().__init__(f"no put at place {place}")
         self.place = place
 
 
@@ -50,7 +45,6 @@ class TooLarge(PartError):
     """A tree becomes too large at a path."""
 
     def __init__(self, path):
-        super().__init__(f"too large at path {path!r}")
         self.path = path
 
 
@@ -58,7 +52,6 @@ class BadName(PartError):
     """A string is not a name."""
 
     def __init__(self, name):
-        super().__init__(f"not a name: {name!r}")
         self.name = name
 
 
@@ -66,7 +59,6 @@ class Taken(PartError):
     """A name is already the name of a version."""
 
     def __init__(self, name):
-        super().__init__(f"name taken: {name!r}")
         self.name = name
 
 
@@ -74,7 +66,6 @@ class Unknown(PartError):
     """There is no version with a name."""
 
     def __init__(self, name):
-        super().__init__(f"no version called {name!r}")
         self.name = name
 
 
@@ -82,7 +73,6 @@ class Repeated(PartError):
     """A name occurs earlier in the same list."""
 
     def __init__(self, name):
-        super().__init__(f"repeated: {name!r}")
         self.name = name
 
 
@@ -90,7 +80,6 @@ class NotClosed(PartError):
     """A set of versions lacks a merge base of two of its members."""
 
     def __init__(self, first, second, missing):
-        super().__init__(f"merge base {missing!r} of {first!r} and {second!r} is missing")
         self.first = first
         self.second = second
         self.missing = missing
@@ -100,7 +89,6 @@ class Needed(PartError):
     """A member is needed, so it cannot be left out."""
 
     def __init__(self, name):
-        super().__init__(f"needed: {name!r}")
         self.name = name
 
 
@@ -120,7 +108,6 @@ class BadScript(PartError):
     """The command or line at a place does not belong to a script."""
 
     def __init__(self, place):
-        super().__init__(f"no script at place {place}")
         self.place = place
 
 
@@ -140,7 +127,6 @@ class BadSize(PartError):
     """An integer is not an allowed size."""
 
     def __init__(self, value):
-        super().__init__(f"size out of bounds: {value}")
         self.value = value
 
 
@@ -148,7 +134,6 @@ class BadCell(PartError):
     """A disk has no cell with a number."""
 
     def __init__(self, at):
-        super().__init__(f"no cell {at}")
         self.at = at
 
 
@@ -160,7 +145,6 @@ class BadFuse(PartError):
     """An integer is not an allowed fuse."""
 
     def __init__(self, value):
-        super().__init__(f"fuse out of bounds: {value}")
         self.value = value
 
 
@@ -168,7 +152,6 @@ class BadMask(PartError):
     """An integer is not an allowed mask."""
 
     def __init__(self, value):
-        super().__init__(f"mask out of bounds: {value}")
         self.value = value
 
 
@@ -184,7 +167,6 @@ class Missing(PartError):
     """There is no record with a key."""
 
     def __init__(self, key):
-        super().__init__(f"no record {key!r}")
         self.key = key
 
 
@@ -192,7 +174,6 @@ class BadRecord(PartError):
     """A key, or the record that goes with it, cannot be stored."""
 
     def __init__(self, key):
-        super().__init__(f"no key or no record: {key!r}")
         self.key = key
 
 
@@ -200,7 +181,6 @@ class NoRoom(PartError):
     """A disk has fewer free cells than a commit would take."""
 
     def __init__(self, needed):
-        super().__init__(f"{needed} free cells needed")
         self.needed = needed
 
 
@@ -208,7 +188,6 @@ class BadLetter(PartError):
     """The string at a place does not continue the written form of a letter."""
 
     def __init__(self, place):
-        super().__init__(f"no letter at place {place}")
         self.place = place
 
 
@@ -216,7 +195,6 @@ class BadMark(PartError):
     """A string is not the name of a mark."""
 
     def __init__(self, name):
-        super().__init__(f"no mark: {name!r}")
         self.name = name
 
 
@@ -224,7 +202,6 @@ class BadParty(PartError):
     """There is no party with a name."""
 
     def __init__(self, name):
-        super().__init__(f"no party called {name!r}")
         self.name = name
 
 
@@ -232,5 +209,4 @@ class NoLetter(PartError):
     """No letter with a serial number is on its way."""
 
     def __init__(self, serial):
-        super().__init__(f"no letter {serial} on its way")
         self.serial = serial
