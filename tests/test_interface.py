@@ -33,6 +33,15 @@ FUNCTIONS = {
     "partclones.webs.restrict": ["restricted(order, names)"],
     "partclones.webs.baselists": ["base_lists(order, ones, others)"],
     "partclones.webs.basetree": ["base_tree(order, trees, ones, others)"],
+    "partclones.closed.gaps": ["gaps(order, names)", "first_gap(order, names)", "is_closed(order, names)"],
+    "partclones.closed.closure": ["rounds(order, names)", "closure(order, names)"],
+    "partclones.closed.lot": ["joined(first, *others)"],
+    "partclones.closed.steps": ["derivation(order, names)", "takes_steps(order, names, steps)"],
+    "partclones.closed.table": ["table(order, names)", "takes_table(order, names, rows)"],
+    "partclones.closed.peel": ["is_free(order, names, name)", "peel(order, names, kept, ranking)"],
+    "partclones.histories.origins": ["line_origins(name, text, elders)"],
+    "partclones.histories.tally": ["moved_tally(order, tally, names)", "reach_of(order, tally, names)"],
+    "partclones.histories.inverse": ["group_reaches(order, tally)", "tally_from(order, reaches)"],
 }
 
 METHODS = {
@@ -47,9 +56,45 @@ METHODS = {
         "nearest(self, name)",
         "checked(self, names)",
     ],
+    ("partclones.closed.lot", "Lot"): [
+        "__init__(self, order, names)",
+        "__contains__(self, name)",
+        "__iter__(self)",
+        "__eq__(self, other)",
+        "__and__(self, other)",
+        "__or__(self, other)",
+        "within(self, other)",
+        "plus(self, name)",
+        "minus(self, name)",
+    ],
+    ("partclones.histories.history", "History"): [
+        "__init__(self)",
+        "__contains__(self, name)",
+        "names(self)",
+        "commit(self, name, parents, tree)",
+        "merge(self, name, one, other)",
+        "pick(self, name, base, change, onto)",
+        "tree(self, name)",
+        "origins(self, name)",
+        "is_under(self, low, high)",
+        "bases(self, one, other)",
+        "base(self, one, other)",
+        "reach(self, names)",
+        "lead(self, one, other)",
+        "order(self)",
+        "tally(self)",
+        "facts(self)",
+        "copied(self)",
+    ],
 }
 
-GENERATORS = ["base_lists"]
+# Methods that are called off the class, with the kinds of their decorators.
+CLASS_CALLS = {
+    ("partclones.closed.lot", "Lot"): [(classmethod, "over(cls, order, names)")],
+    ("partclones.histories.history", "History"): [(staticmethod, "of(facts)")],
+}
+
+GENERATORS = ["base_lists", "gaps", "rounds", "peel"]
 
 EXAMPLES = """
 >>> from partclones.texts.matching import matched
@@ -80,6 +125,25 @@ EXAMPLES = """
 [['a', 'b'], ['r'], ['a']]
 >>> group_bases(order, ["a", "b"], ["b"])
 ['b']
+
+>>> from partclones.closed.closure import closure, rounds
+>>> from partclones.closed.gaps import first_gap
+>>> [first_gap(order, ["d", "c"]), closure(order, ["d", "c"]), list(rounds(order, ["d", "c"]))]
+[('c', 'd', 'a'), ['a', 'b', 'c', 'd', 'r'], [['c', 'd'], ['a', 'b', 'c', 'd'], ['a', 'b', 'c', 'd', 'r']]]
+
+>>> from partclones.histories.origins import line_origins
+>>> line_origins("n", ["a", "x", "c"], [(["a", "b"], ["r", "s"]), (["c"], ["t"])])
+['r', 'n', 't']
+
+>>> from partclones.histories.history import History
+>>> history = History()
+>>> history.commit("r", [], {"f": ["a", "b", "c"]})
+>>> history.commit("x", ["r"], {"f": ["a", "b", "c", "d"]})
+>>> history.commit("y", ["r"], {"f": ["b", "c"]})
+>>> history.merge("m", "x", "y")
+[]
+>>> [history.tree("m"), history.origins("m"), history.reach(["m"]), history.lead("x", "y")]
+[{'f': ['b', 'c', 'd']}, {'f': ['r', 'r', 'x']}, 4, 1]
 """
 
 
@@ -89,7 +153,8 @@ class InterfaceTest(unittest.TestCase):
         self.assertEqual(found.__module__, module)
         name, parameters = listed[:-1].split("(")
         self.assertEqual(found.__name__, name)
-        self.assertEqual(list(inspect.signature(found).parameters), parameters.split(", "))
+        shown = [str(parameter) for parameter in inspect.signature(found).parameters.values()]
+        self.assertEqual(shown, parameters.split(", "))
         self.assertEqual(inspect.isgeneratorfunction(found), name in GENERATORS)
 
     def test_functions(self):
@@ -107,6 +172,15 @@ class InterfaceTest(unittest.TestCase):
                 with self.subTest(f"{name} {listed}"):
                     self.check(vars(kind)[listed.split("(")[0]], listed, module)
 
+    def test_static_and_class_methods_stand_in_the_class_itself(self):
+        for (module, name), lines in CLASS_CALLS.items():
+            kind = vars(importlib.import_module(module))[name]
+            for decorator, listed in lines:
+                with self.subTest(f"{name} {listed}"):
+                    found = vars(kind)[listed.split("(")[0]]
+                    self.assertIs(type(found), decorator)
+                    self.check(found.__func__, listed, module)
+
     def test_arguments_may_be_passed_by_name(self):
         from partclones.webs.basetree import base_tree
         from partclones.webs.order import Order
@@ -119,7 +193,7 @@ class InterfaceTest(unittest.TestCase):
     def test_examples(self):
         test = doctest.DocTestParser().get_doctest(EXAMPLES, {}, "interface", "DOC.md", 0)
         result = doctest.DocTestRunner(verbose=False).run(test)
-        self.assertEqual((result.failed, result.attempted), (0, 18))
+        self.assertEqual((result.failed, result.attempted), (0, EXAMPLES.count("\n>>> ")))
 
 
 if __name__ == "__main__":

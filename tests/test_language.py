@@ -114,6 +114,41 @@ class LanguageTest(unittest.TestCase):
         for where, node in self.nodes((ast.Div, ast.MatMult, ast.Await, ast.NamedExpr, ast.AnnAssign, ast.Global)):
             self.fail(where)
 
+    def test_decorators(self):
+        allowed = ("property", "staticmethod", "classmethod")
+        for where, node in self.nodes((ast.FunctionDef, ast.ClassDef)):
+            for decorator in node.decorator_list:
+                setter = isinstance(decorator, ast.Attribute) and decorator.attr == "setter"
+                self.assertTrue(setter or decorator.id in allowed, where)
+
+    def test_double_underscore_methods(self):
+        allowed = "init eq repr str len enter exit call iter contains and or".split()
+        for where, node in self.nodes(ast.FunctionDef):
+            if node.name.startswith("__"):
+                self.assertIn(node.name.strip("_"), allowed, where)
+
+    def test_generators(self):
+        generators, others = [], []
+        for where, node in self.nodes(ast.FunctionDef):
+            yields = any(isinstance(inner, (ast.Yield, ast.YieldFrom)) for inner in ast.walk(node))
+            (generators if yields else others).append(node.name)
+        self.assertEqual(len(set(generators)), len(generators))
+        self.assertEqual(set(generators) & set(others), set())
+        iterated = []
+        for _, node in self.nodes((ast.For, ast.comprehension)):
+            iterated.append(node.iter)
+        for _, node in self.nodes(ast.Call):
+            if isinstance(node.func, ast.Name) and node.func.id in ("list", "sorted"):
+                iterated.extend(node.args)
+        for where, node in self.nodes(ast.Call):
+            if isinstance(node.func, ast.Name) and node.func.id in generators:
+                self.assertIn(node, iterated, where)
+
+    def test_lists_are_sorted_anew(self):
+        # Lists are not sorted in place in a package in which a class compares.
+        for where, node in self.nodes(ast.Attribute):
+            self.assertNotEqual(node.attr, "sort", where)
+
     def test_names(self):
         own = {node.id for _, node in self.nodes(ast.Name) if isinstance(node.ctx, ast.Store)}
         own |= {node.arg for _, node in self.nodes(ast.arg)}

@@ -15,10 +15,7 @@ class Order:
 
     def put(self, name, parents):
         """Add a version with a list of parents."""
-        if not is_name(name):
-            raise BadName(name)
-        if self.has(name):
-            raise Taken(name)
+        self.check_new(name)
         lower = self.under_group(self.checked(parents))
         self._under[name] = {low: True for low in [*lower, name]}
         self._names = sorted(self._under)
@@ -37,29 +34,37 @@ class Order:
 
     def under(self, name):
         """Return the ascending list of the versions under a version, itself included."""
-        self._check_known(name)
+        self.check_known(name)
         return sorted(self._under[name])
 
     def is_under(self, low, high):
         """Return True if version low is under version high, otherwise False."""
-        self._check_known(low)
-        self._check_known(high)
+        self.check_known(low)
+        self.check_known(high)
         return low in self._under[high]
 
     def nearest(self, name):
         """Return the ascending list of the nearest versions of a version."""
-        self._check_known(name)
+        self.check_known(name)
         return self.highest([low for low in self._under[name] if low != name])
 
     def checked(self, names):
         """Return a new list equal to the names; raise Unknown or Repeated at the first wrong one."""
         found = {}
         for name in names:
-            self._check_known(name)
+            self.check_known(name)
             if name in found:
                 raise Repeated(name)
             found[name] = True
         return list(found)
+
+    def copied(self):
+        """Return another order with the same versions."""
+        other = Order()
+        other._names = list(self._names)
+        # The dicts inside are never changed, so both orders may have them.
+        other._under = dict(self._under)
+        return other
 
     def under_group(self, names):
         """Return the list of the versions under a group, in the order of their puts."""
@@ -67,6 +72,10 @@ class Order:
         for name in names:
             lower.update(self._under[name])
         return [low for low in self._under if low in lower]
+
+    def above_group(self, names):
+        """Return the list of the versions under which a member of a group lies, in the order of their puts."""
+        return [high for high in self._under if any([name in self._under[high] for name in names])]
 
     def highest(self, names):
         """Return the ascending list of the maximal ones of versions that stand in the order of their puts."""
@@ -80,7 +89,25 @@ class Order:
             left = [name for name in left if name not in lower]
         return sorted(found)
 
-    def _check_known(self, name):
+    def lowest(self, names):
+        """Return the ascending list of the minimal ones of versions that stand in the order of their puts."""
+        found = []
+        left = names
+        while left:
+            # Nothing that was put later is under what was put first, so it is minimal.
+            bottom = left[0]
+            found.append(bottom)
+            left = [name for name in left if bottom not in self._under[name]]
+        return sorted(found)
+
+    def check_known(self, name):
         """Raise Unknown if there is no version with this name."""
         if name not in self._under:
             raise Unknown(name)
+
+    def check_new(self, name):
+        """Raise BadName or Taken unless a version with this name can be added."""
+        if not is_name(name):
+            raise BadName(name)
+        if name in self._under:
+            raise Taken(name)

@@ -1,0 +1,1 @@
+"""Closed sets of versions: gaps, closures, lots, derivations, tables and peeling."""
