@@ -53,6 +53,9 @@ class Web:
             name for name in names if not any(name != other and self.is_under(name, other) for other in names)
         )
 
+    def minimal(self, names):
+        return [name for name in names if not any(name != low and self.is_under(low, name) for low in names)]
+
     def common(self, ones, others):
         return sorted(
             name
@@ -204,7 +207,7 @@ def plain_core(grown, kept):
     for name in web.parents:
         if name not in kept:
             above = [high for high in kept if web.is_under(name, high)]
-            kind = tuple(sorted(high for high in above if not any(web.is_under(low, high) for low in above if low != high)))
+            kind = tuple(sorted(web.minimal(above)))
             if kind:
                 numbers[kind] = numbers.get(kind, 0) + 1
     return tuple(rows), tuple(sorted(numbers.items()))
@@ -225,3 +228,25 @@ def is_plain(value):
     if type(value) is tuple:
         return all(is_plain(inner) for inner in value)
     return value is None or type(value) in (str, int, bool)
+
+
+def example():
+    """The history of the interface's example."""
+    from partclones.histories.history import History
+
+    history = History()
+    history.commit("r", [], {"f": ["a", "b", "c"]})
+    history.commit("x", ["r"], {"f": ["a", "b", "c", "d"]})
+    history.commit("y", ["r"], {"f": ["b", "c"]})
+    history.merge("m", "x", "y")
+    return history
+
+
+def criss_cross(**trees):
+    """A history of the order CRISS_CROSS with these trees."""
+    from partclones.histories.history import History
+
+    history = History()
+    for name, parents in CRISS_CROSS:
+        history.commit(name, parents, trees.get(name, {}))
+    return history

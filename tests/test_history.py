@@ -7,25 +7,7 @@ from partclones.histories.history import History
 from partclones.trees.mergetree import merge_trees
 from partclones.webs.basetree import base_tree
 from partclones.webs.order import Order
-from support import CRISS_CROSS, Grown, Web, is_plain, make_order, spoil
-
-
-def example():
-    """The history of the interface's example."""
-    history = History()
-    history.commit("r", [], {"f": ["a", "b", "c"]})
-    history.commit("x", ["r"], {"f": ["a", "b", "c", "d"]})
-    history.commit("y", ["r"], {"f": ["b", "c"]})
-    history.merge("m", "x", "y")
-    return history
-
-
-def criss_cross(**trees):
-    """A history of the order CRISS_CROSS with these trees."""
-    history = History()
-    for name, parents in CRISS_CROSS:
-        history.commit(name, parents, trees.get(name, {}))
-    return history
+from support import CRISS_CROSS, Grown, Web, criss_cross, example, is_plain, make_order, spoil
 
 
 class Case(unittest.TestCase):
@@ -447,12 +429,15 @@ class FactsTest(Case):
         self.assertIs(type(copy), History)
         self.assertIsNot(copy, history)
         self.assertEqual(copy.facts(), history.facts())
-        copy.commit("n", ["m"], {})
+        copy.commit("n", ["m"], {"f": ["b", "x"]})
         history.commit("o", ["r"], {"g": []})
         self.assertEqual(copy.names(), ["m", "n", "r", "x", "y"])
         self.assertEqual(history.names(), ["m", "o", "r", "x", "y"])
-        history.commit("n", [], {})
+        # Both may have a version of the same name that has nothing to do with the other one.
+        history.commit("n", [], {"h": ["z"]})
         self.assertEqual([history.reach(["n"]), copy.reach(["n"])], [1, 5])
+        self.assertEqual([history.tree("n"), copy.tree("n")], [{"h": ["z"]}, {"f": ["b", "x"]}])
+        self.assertEqual([history.origins("n"), copy.origins("n")], [{"h": ["n"]}, {"f": ["r", "n"]}])
         tally = ((("r",), 4),)
         forgetful = History.of((history.facts()[0], tally))
         self.assertEqual(forgetful.copied().facts(), forgetful.facts())

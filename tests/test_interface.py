@@ -42,6 +42,14 @@ FUNCTIONS = {
     "partclones.histories.origins": ["line_origins(name, text, elders)"],
     "partclones.histories.tally": ["moved_tally(order, tally, names)", "reach_of(order, tally, names)"],
     "partclones.histories.inverse": ["group_reaches(order, tally)", "tally_from(order, reaches)"],
+    "partclones.histories.core": ["core(history, names)", "thinned(history, names)"],
+    "partclones.histories.narrowing": ["narrowed_history(history, folders)"],
+    "partclones.histories.ask": ["answer(history, question)"],
+    "partclones.histories.listing": ["listing(history, *names, paths=True)"],
+    "partclones.scripts.step": ["step(history, command)"],
+    "partclones.scripts.run": ["run(history, commands)"],
+    "partclones.scripts.writing": ["script_lines(commands)"],
+    "partclones.scripts.reading": ["read_script(lines)"],
 }
 
 METHODS = {
@@ -86,7 +94,18 @@ METHODS = {
         "facts(self)",
         "copied(self)",
     ],
+    ("partclones.vault.disk", "Disk"): [
+        "__init__(self, cells)",
+        "read(self, at)",
+        "write(self, at, items)",
+        "flush(self)",
+        "cut_after(self, count)",
+        "fall(self, mask)",
+    ],
 }
+
+# Properties, and whether they can be assigned.
+PROPERTIES = {("partclones.vault.disk", "Disk"): [("cells", False), ("queued", False), ("fuse", True)]}
 
 # Methods that are called off the class, with the kinds of their decorators.
 CLASS_CALLS = {
@@ -144,6 +163,24 @@ EXAMPLES = """
 []
 >>> [history.tree("m"), history.origins("m"), history.reach(["m"]), history.lead("x", "y")]
 [{'f': ['b', 'c', 'd']}, {'f': ['r', 'r', 'x']}, 4, 1]
+
+>>> from partclones.histories.core import core
+>>> core(history, ["m", "y"])
+((('m', ('y',), (('f', ('b', 'c', 'd')),), (('f', ('r', 'r', 'x')),)), ('y', (), (('f', ('b', 'c')),), (('f', ('r', 'r')),))), ((('m',), 1), (('y',), 1)))
+
+>>> from partclones.histories.listing import listing
+>>> [listing(history, "y", "m"), listing(history, "m", paths=False)]
+[['m         4  1   3', 'y         2  1   2'], ['m         4   3']]
+
+>>> from partclones.scripts.run import run
+>>> run(history, [("keep", ("x", "y")), ("ask", ("lead", "x", "y")), ("merge", "k", "x", "r")])[1]
+[('kept', ('r', 'x', 'y')), ('answer', 1), ('merged', ())]
+>>> run(history, [("keep", ("x", "m")), ("ask", ("reach", "m")), ("merge", "k", "x", "r")])[1]
+[('kept', ('m', 'x')), ('answer', 4), ('refused', 'unknown')]
+
+>>> from partclones.scripts.writing import script_lines
+>>> script_lines([("commit", "a1", ("r", "s"), (("f", ("x", "")), ("g", None))), ("ask", ("under", "r", "a1"))])
+['commit a1 on r s', 'put f', ': x', ': ', 'cut g', 'ask under r a1']
 """
 
 
@@ -180,6 +217,19 @@ class InterfaceTest(unittest.TestCase):
                     found = vars(kind)[listed.split("(")[0]]
                     self.assertIs(type(found), decorator)
                     self.check(found.__func__, listed, module)
+
+    def test_properties_stand_in_the_class_itself(self):
+        for (module, name), lines in PROPERTIES.items():
+            kind = vars(importlib.import_module(module))[name]
+            for listed, assigned in lines:
+                with self.subTest(f"{name} {listed}"):
+                    found = vars(kind)[listed]
+                    self.assertIs(type(found), property)
+                    self.check(found.fget, f"{listed}(self)", module)
+                    self.assertEqual(found.fset is not None, assigned)
+
+    def test_class_values(self):
+        self.assertEqual(vars(importlib.import_module("partclones.vault.disk").Disk)["WIDTH"], 8)
 
     def test_arguments_may_be_passed_by_name(self):
         from partclones.webs.basetree import base_tree

@@ -28,6 +28,26 @@ STATEMENTS = (
 )
 
 
+OPERATORS = "__eq__ __len__ __repr__ __str__ __contains__ __and__ __or__".split()
+
+MODIFYING = "append clear extend insert pop remove reverse setdefault update add discard".split()
+
+
+def is_changed(node):
+    return isinstance(node.ctx, (ast.Store, ast.Del))
+
+
+def assigns(node, name):
+    return any(isinstance(target, ast.Name) and target.id == name for target in node.targets)
+
+
+def is_new(value):
+    """Whether the value of an assignment is a list, dict or set that the statement itself makes."""
+    if isinstance(value, ast.Call):
+        return getattr(value.func, "id", "") in ("list", "dict", "set", "sorted")
+    return isinstance(value, (ast.List, ast.Dict, ast.Set, ast.ListComp, ast.DictComp, ast.SetComp))
+
+
 def package_files():
     found = []
     for folder, folders, names in os.walk(ROOT):
@@ -143,6 +163,54 @@ class LanguageTest(unittest.TestCase):
         for where, node in self.nodes(ast.Call):
             if isinstance(node.func, ast.Name) and node.func.id in generators:
                 self.assertIn(node, iterated, where)
+
+    def functions_by_name(self):
+        found = {}
+        for tree in self.trees.values():
+            for node in ast.walk(tree):
+                if isinstance(node, ast.FunctionDef):
+                    found.setdefault(node.name, []).append(node)
+                elif isinstance(node, ast.ClassDef):
+                    starts = [inner for inner in node.body if getattr(inner, "name", "") == "__init__"]
+                    found.setdefault(node.name, []).extend(starts)
+        return found
+
+    def run_by_operators(self):
+        """The functions and methods that operators and properties run, by whatever has the name that they call."""
+        named = self.functions_by_name()
+        left = [node for name in OPERATORS for node in named.get(name, [])]
+        for _, node in self.nodes(ast.FunctionDef):
+            if [decorator for decorator in node.decorator_list if getattr(decorator, "id", "") == "property"]:
+                left.append(node)
+        found = []
+        while left:
+            node = left.pop()
+            if node not in found:
+                found.append(node)
+                calls = [inner.func for inner in ast.walk(node) if isinstance(inner, ast.Call)]
+                for call in calls:
+                    left.extend(named.get(getattr(call, "id", getattr(call, "attr", "")), []))
+        return found
+
+    def test_operators_change_only_what_they_created(self):
+        names = [node.name for node in self.run_by_operators()]
+        for name in ("__and__", "__or__", "queued", "closure", "rounds", "highest"):
+            self.assertIn(name, names)
+        for function in self.run_by_operators():
+            where = f"{function.name}:{function.lineno}"
+            nodes = list(ast.walk(function))
+            changed = [node.value for node in nodes if isinstance(node, ast.Subscript) and is_changed(node)]
+            for node in nodes:
+                if isinstance(node, ast.Attribute) and is_changed(node):
+                    self.assertEqual((function.name, node.value.id), ("__init__", "self"), where)
+                if isinstance(node, ast.Call) and getattr(node.func, "attr", "") in MODIFYING:
+                    changed.append(node.func.value)
+            for node in changed:
+                self.assertIsInstance(node, ast.Name, where)
+                made = [inner.value for inner in nodes if isinstance(inner, ast.Assign) and assigns(inner, node.id)]
+                self.assertTrue(made and all(is_new(value) for value in made), where)
+            if changed:
+                self.assertFalse(any(isinstance(node, (ast.Yield, ast.YieldFrom)) for node in nodes), where)
 
     def test_lists_are_sorted_anew(self):
         # Lists are not sorted in place in a package in which a class compares.

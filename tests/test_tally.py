@@ -14,8 +14,7 @@ def plain_tally(web, kept):
     numbers = {}
     for name in web.parents:
         if name not in kept:
-            above = {high for high in kept if web.is_under(name, high)}
-            kind = tuple(sorted(high for high in above if not any(web.is_under(low, high) for low in above - {high})))
+            kind = tuple(sorted(web.minimal([high for high in kept if web.is_under(name, high)])))
             if kind:
                 numbers[kind] = numbers.get(kind, 0) + 1
     return tuple(sorted(numbers.items()))

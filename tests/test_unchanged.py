@@ -3,6 +3,13 @@
 import copy
 import unittest
 
+from partclones.closed.closure import closure, rounds
+from partclones.closed.gaps import first_gap, gaps, is_closed
+from partclones.closed.peel import is_free, peel
+from partclones.closed.steps import derivation, takes_steps
+from partclones.closed.table import table, takes_table
+from partclones.histories.inverse import group_reaches, tally_from
+from partclones.histories.tally import moved_tally, reach_of
 from partclones.texts.chunks import text_chunks
 from partclones.texts.edits import apply_edits, inverse_edits, text_edits
 from partclones.texts.lines import checked_text
@@ -161,6 +168,50 @@ class OrderCallsTest(unittest.TestCase):
                 self.assertEqual(passed, arguments)
                 spoil(result)
                 spoil(passed)
+                self.assertEqual(self.picture(order), before)
+
+    def test_closed_sets_and_tallies(self):
+        order = make_order(CRISS_CROSS)
+        before = self.picture(order)
+        whole = ["r", "d", "b", "c", "a"]
+        tally = ((("a", "b"), 2), (("c",), 3))
+        calls = (
+            *[(first_gap, ["d", "c"]), (is_closed, ["d", "c"]), (closure, ["d", "c"])],
+            *[(derivation, ["d", "c"]), (takes_steps, ["d", "c"], [("b", "d", "c"), ("a", "c", "d")])],
+            *[(table, whole), (takes_table, whole, table(order, whole)), (is_free, whole, "a")],
+            *[(moved_tally, tally, ["d", "c"]), (reach_of, tally, ["d", "b"])],
+            *[(group_reaches, tally), (tally_from, group_reaches(order, tally))],
+        )
+        for call, *arguments in calls:
+            with self.subTest(call.__name__):
+                passed = fresh(arguments)
+                result = call(order, *passed)
+                self.assertEqual(passed, arguments)
+                first = fresh(result)
+                spoil(passed)
+                self.assertEqual(result, first)
+                spoil(result)
+                self.assertEqual(call(order, *fresh(arguments)), first)
+                self.assertEqual(self.picture(order), before)
+
+    def test_gaps_rounds_and_peeling(self):
+        order = make_order(CRISS_CROSS)
+        before = self.picture(order)
+        whole = ["r", "d", "b", "c", "a"]
+        for call, *arguments in (
+            (gaps, ["d", "c"]),
+            (rounds, ["d", "c"]),
+            (peel, whole, ["b", "a"], whole),
+            (peel, whole, [], whole),
+        ):
+            with self.subTest(call.__name__):
+                passed = fresh(arguments)
+                result = list(call(order, *passed))
+                self.assertEqual(passed, arguments)
+                first = fresh(result)
+                spoil(result)
+                spoil(passed)
+                self.assertEqual(list(call(order, *fresh(arguments))), first)
                 self.assertEqual(self.picture(order), before)
 
     def test_base_lists(self):

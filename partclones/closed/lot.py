@@ -45,7 +45,6 @@ class Lot:
 
     def plus(self, name):
         """Return the lot over the members and a version of the order."""
-        self._order.check_known(name)
         return _join(self._order, [*self._members, name])
 
     def minus(self, name):

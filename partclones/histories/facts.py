@@ -13,6 +13,7 @@ def rising_rows(rows):
     found = {}
     while len(found) < len(rows):
         for row in rows:
-            if row[0] not in found and all([low in found for low in row[1]]):
+            # A row that is found again keeps its place.
+            if all([low in found for low in row[1]]):
                 found[row[0]] = row
     return list(found.values())

@@ -14,7 +14,9 @@ def puts_between(old, new):
 
 def put_tree(tree, puts):
     """Return the tree with puts put into it; raise BadPut at the first that is wrong."""
-    _check_puts(puts)
+    place = fault_in_puts(puts)
+    if place is not None:
+        raise BadPut(place)
     texts = dict(tree)
     for path, lines in puts:
         # A path with None is left out when the new tree is made.
@@ -22,13 +24,14 @@ def put_tree(tree, puts):
     return tree_from(texts)
 
 
-def _check_puts(puts):
-    """Raise BadPut at the first item that is not a put or whose path occurs earlier."""
+def fault_in_puts(puts):
+    """Return the place of the first item that is not a put or whose path occurs earlier, or None."""
     seen = set()
     for place, (path, lines) in enumerate(puts):
         if not is_path(path) or path in seen or not _is_put_text(lines):
-            raise BadPut(place)
+            return place
         seen.add(path)
+    return None
 
 
 def _is_put_text(lines):

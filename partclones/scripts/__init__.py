@@ -1,0 +1,1 @@
+"""Scripts: doing, writing and reading commands."""

@@ -1,0 +1,1 @@
+"""Disks that can lose power, and what is stored on them."""
