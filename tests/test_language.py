@@ -192,9 +192,18 @@ class LanguageTest(unittest.TestCase):
                     left.extend(named.get(getattr(call, "id", getattr(call, "attr", "")), []))
         return found
 
+    def test_operators_and_properties_run_no_generator(self):
+        # A constructor that they call counts, too.
+        names = [node.name for node in self.run_by_operators()]
+        for name in ("__and__", "__or__", "first_gap", "closure", "queued"):
+            self.assertIn(name, names)
+        for function in self.run_by_operators():
+            yields = any(isinstance(node, (ast.Yield, ast.YieldFrom)) for node in ast.walk(function))
+            self.assertFalse(yields, f"{function.name}:{function.lineno}")
+
     def test_operators_change_only_what_they_created(self):
         names = [node.name for node in self.run_by_operators()]
-        for name in ("__and__", "__or__", "queued", "closure", "rounds", "highest"):
+        for name in ("__and__", "__or__", "queued", "closure", "highest"):
             self.assertIn(name, names)
         for function in self.run_by_operators():
             where = f"{function.name}:{function.lineno}"
@@ -209,8 +218,13 @@ class LanguageTest(unittest.TestCase):
                 self.assertIsInstance(node, ast.Name, where)
                 made = [inner.value for inner in nodes if isinstance(inner, ast.Assign) and assigns(inner, node.id)]
                 self.assertTrue(made and all(is_new(value) for value in made), where)
-            if changed:
-                self.assertFalse(any(isinstance(node, (ast.Yield, ast.YieldFrom)) for node in nodes), where)
+
+    def test_the_end_of_a_block_only_assigns(self):
+        ends = [node for _, node in self.nodes(ast.FunctionDef) if node.name == "__exit__"]
+        self.assertEqual(len(ends), 1)
+        for node in ends[0].body[1:]:
+            self.assertIsInstance(node, ast.Assign)
+            self.assertIsInstance(node.value, ast.Attribute)
 
     def test_lists_are_sorted_anew(self):
         # Lists are not sorted in place in a package in which a class compares.

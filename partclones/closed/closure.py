@@ -18,8 +18,13 @@ def rounds(order, names):
 
 def closure(order, names):
     """Return the closure of a list of versions as an ascending list."""
-    found = list(rounds(order, names))
-    return found[-1]
+    # This does not go through rounds, because the operators of lots run it, and no generator runs in them.
+    members = sorted(order.checked(names))
+    wider = _with_bases(order, members)
+    while len(wider) > len(members):
+        members = wider
+        wider = _with_bases(order, members)
+    return members
 
 
 def _with_bases(order, members):

@@ -8,15 +8,18 @@ def gaps(order, names):
     """Yield the gaps of a list of versions in their order."""
     members = sorted(order.checked(names))
     for x, y in pairs_of(members):
-        for base in merge_bases(order, x, y):
-            if base not in members:
-                yield x, y, base
+        for base in _missing(order, members, x, y):
+            yield x, y, base
 
 
 def first_gap(order, names):
     """Return the first gap of a list of versions, or None if there is none."""
-    for gap in gaps(order, names):
-        return gap
+    # This does not go through gaps, because the operators of lots run it, and no generator runs in them.
+    members = sorted(order.checked(names))
+    for x, y in pairs_of(members):
+        missing = _missing(order, members, x, y)
+        if missing:
+            return x, y, missing[0]
     return None
 
 
@@ -37,3 +40,8 @@ def checked_closed(order, names):
 def pairs_of(members):
     """Return the ascending list of the pairs of two different ones of members that ascend."""
     return [(x, y) for x in members for y in members if x < y]
+
+
+def _missing(order, members, x, y):
+    """Return the ascending list of the merge bases of two members that are no members."""
+    return [base for base in merge_bases(order, x, y) if base not in members]
