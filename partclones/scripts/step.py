@@ -1,36 +1,19 @@
 """Doing one command."""
 
 from partclones.closed.closure import closure
-from partclones.errors import BadName, BadPut, BadQuestion, BadTree, Repeated, Taken, TooLarge, Unknown
 from partclones.histories.ask import answer
 from partclones.histories.core import core
 from partclones.histories.history import History
 from partclones.histories.putting import commit_puts
+from partclones.scripts.refusals import outcome
 
 
 def step(history, command):
     """Return a new history on which a command is done, and the answer of the command."""
     now = history.copied()
-    try:
-        return _done(now, command)
-    except BadName:
-        word = "name"
-    except Taken:
-        word = "taken"
-    except Unknown:
-        word = "unknown"
-    except Repeated:
-        word = "repeated"
-    except BadPut:
-        word = "put"
-    except BadTree:
-        word = "tree"
-    except TooLarge:
-        word = "large"
-    except BadQuestion:
-        word = "question"
+    done, word = outcome(_done, now, command)
     # What raises an error changes nothing, so this is still a copy of the history.
-    return now, ("refused", word)
+    return (now, ("refused", word)) if done is None else done
 
 
 def _done(history, command):
