@@ -50,6 +50,25 @@ FUNCTIONS = {
     "partclones.scripts.run": ["run(history, commands)"],
     "partclones.scripts.writing": ["script_lines(commands)"],
     "partclones.scripts.reading": ["read_script(lines)"],
+    "partclones.scripts.fresh": ["fresh_names(taken, count)", "fresh_path(history)"],
+    "partclones.scripts.desk": ["tried(desk, moves)"],
+    "partclones.scripts.worlds": ["two_worlds(history, names)"],
+    "partclones.scripts.judge": ["takes_worlds(history, names, first, second, commands)"],
+    "partclones.scripts.parting": ["parting(first, second)"],
+    "partclones.vault.chain": [
+        "cells_for(count)",
+        "laid(strings, places)",
+        "read_chain(disk, place)",
+        "chain_cells(disk, place)",
+    ],
+    "partclones.vault.root": ["root_of(disk)"],
+    "partclones.vault.space": ["cells_needed(records)"],
+    "partclones.parties.coding": ["history_records(history)"],
+    "partclones.parties.decoding": ["history_of(records)"],
+    "partclones.parties.packs": ["pack(trees, names, have)", "unpack(entries, have)"],
+    "partclones.parties.letters": ["letter_strings(letter)"],
+    "partclones.parties.reading": ["read_letter(strings)"],
+    "partclones.fleet.audit": ["complaints(fleet)", "settle(fleet)"],
 }
 
 METHODS = {
@@ -102,15 +121,69 @@ METHODS = {
         "cut_after(self, count)",
         "fall(self, mask)",
     ],
+    ("partclones.scripts.desk", "Desk"): [
+        "__init__(self, history=None)",
+        "__call__(self, command)",
+        "undo(self)",
+        "redo(self)",
+        "trial(self)",
+        "facts(self)",
+    ],
+    ("partclones.vault.vault", "Vault"): [
+        "known(self)",
+        "read(self, key)",
+        "commit(self, changes)",
+        "used(self)",
+        "free(self)",
+    ],
+    ("partclones.parties.party", "Party"): ["kept(self)", "facts(self)", "ask(self, question)", "status(self)"],
+    ("partclones.parties.clone", "Clone"): [
+        "commit(self, parents, tree)",
+        "merge(self, one, other)",
+        "pick(self, base, change, onto)",
+        "keep(self, names)",
+        "pull(self, want, moves, *back)",
+        "again(self)",
+        "take(self, strings)",
+        "made(self)",
+        "status(self)",
+    ],
+    ("partclones.parties.hub", "Hub"): ["take(self, strings)", "forget(self)", "record(self, letter)", "status(self)"],
+    ("partclones.fleet.net", "Net"): [
+        "__init__(self)",
+        "send(self, sender, receiver, strings)",
+        "waiting(self)",
+        "look(self, serial)",
+        "deliver(self, serial)",
+        "double(self, serial)",
+        "lose(self, serial)",
+    ],
+    ("partclones.fleet.fleet", "Fleet"): [
+        "__init__(self, clones=2)",
+        "do(self, event)",
+        "clone_letters(self)",
+        "clone(self, letter)",
+        "hub(self)",
+        "waiting(self)",
+        "full(self)",
+    ],
 }
 
 # Properties, and whether they can be assigned.
-PROPERTIES = {("partclones.vault.disk", "Disk"): [("cells", False), ("queued", False), ("fuse", True)]}
+PROPERTIES = {
+    ("partclones.vault.disk", "Disk"): [("cells", False), ("queued", False), ("fuse", True)],
+    ("partclones.scripts.desk", "Desk"): [("depth", False)],
+    ("partclones.parties.party", "Party"): [("marks", False)],
+    ("partclones.parties.clone", "Clone"): [("letter", False), ("number", False)],
+}
 
 # Methods that are called off the class, with the kinds of their decorators.
 CLASS_CALLS = {
     ("partclones.closed.lot", "Lot"): [(classmethod, "over(cls, order, names)")],
     ("partclones.histories.history", "History"): [(staticmethod, "of(facts)")],
+    ("partclones.vault.vault", "Vault"): [(staticmethod, "fresh(disk)"), (staticmethod, "opened(disk)")],
+    ("partclones.parties.clone", "Clone"): [(staticmethod, "fresh(letter, disk)"), (staticmethod, "opened(disk)")],
+    ("partclones.parties.hub", "Hub"): [(staticmethod, "fresh(disk)"), (staticmethod, "opened(disk)")],
 }
 
 GENERATORS = ["base_lists", "gaps", "rounds", "peel"]
@@ -181,6 +254,18 @@ EXAMPLES = """
 >>> from partclones.scripts.writing import script_lines
 >>> script_lines([("commit", "a1", ("r", "s"), (("f", ("x", "")), ("g", None))), ("ask", ("under", "r", "a1"))])
 ['commit a1 on r s', 'put f', ': x', ': ', 'cut g', 'ask under r a1']
+
+>>> from partclones.scripts.run import run
+>>> from partclones.scripts.worlds import two_worlds
+>>> first, second, commands = two_worlds(history, ["x", "y"])
+>>> commands
+[('commit', 'x0', ('x',), (('f', None), ('p0', ('kept',)))), ('commit', 'x1', ('y',), (('f', None),)), ('merge', 'x2', 'x0', 'x1'), ('ask', ('show', 'x2'))]
+>>> [run(first, commands)[1][3], run(second, commands)[1][3]]
+[('answer', ()), ('answer', (('p0', ('kept',)),))]
+
+>>> from partclones.parties.letters import letter_strings
+>>> letter_strings(("request", "a", 3, ("b1",), (("a2", ("b1",), (("f", ("x",)), ("g", None))),), ("main",), (), ("r1",)))
+['request', 'a', '3', '1', 'b1', '1', 'a2', '1', 'b1', '2', 'f', 'put', '1', 'x', 'g', 'cut', '1', 'main', '0', '1', 'r1']
 """
 
 
@@ -227,6 +312,11 @@ class InterfaceTest(unittest.TestCase):
                     self.assertIs(type(found), property)
                     self.check(found.fget, f"{listed}(self)", module)
                     self.assertEqual(found.fset is not None, assigned)
+
+    def test_clones_and_the_hub_are_parties(self):
+        party = importlib.import_module("partclones.parties.party").Party
+        for module, name in (("partclones.parties.clone", "Clone"), ("partclones.parties.hub", "Hub")):
+            self.assertEqual(vars(importlib.import_module(module))[name].__bases__, (party,))
 
     def test_class_values(self):
         self.assertEqual(vars(importlib.import_module("partclones.vault.disk").Disk)["WIDTH"], 8)

@@ -195,7 +195,7 @@ class LanguageTest(unittest.TestCase):
     def test_operators_and_properties_run_no_generator(self):
         # A constructor that they call counts, too.
         names = [node.name for node in self.run_by_operators()]
-        for name in ("__and__", "__or__", "first_gap", "closure", "queued"):
+        for name in ("__and__", "__or__", "first_gap", "closure", "depth", "marks"):
             self.assertIn(name, names)
         for function in self.run_by_operators():
             yields = any(isinstance(node, (ast.Yield, ast.YieldFrom)) for node in ast.walk(function))

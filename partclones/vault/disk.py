@@ -40,8 +40,8 @@ class Disk:
     @fuse.setter
     def fuse(self, value):
         """Set the number of operations that are left, or None for no fuse."""
-        if value is not None and (value < 0 or value > LONGEST_FUSE):
-            raise BadFuse(value)
+        if value is not None:
+            check_fuse(value)
         self._fuse = value
 
     def cut_after(self, count):
@@ -73,8 +73,7 @@ class Disk:
 
     def fall(self, mask):
         """Carry out the queued writes whose bits in the mask are 1, lose the others, and remove the fuse."""
-        if mask < 0 or mask > 2 ** 40:
-            raise BadMask(mask)
+        check_mask(mask)
         for number, (at, items) in enumerate(self._queue):
             if (mask >> number) & 1:
                 self._held[at] = items
@@ -92,3 +91,15 @@ class Disk:
             if self._fuse == 0:
                 raise PowerCut()
             self._fuse -= 1
+
+
+def check_fuse(value):
+    """Raise BadFuse unless a disk can have a fuse of this length."""
+    if value < 0 or value > LONGEST_FUSE:
+        raise BadFuse(value)
+
+
+def check_mask(mask):
+    """Raise BadMask unless a disk can fall with this mask."""
+    if mask < 0 or mask > 2 ** 40:
+        raise BadMask(mask)

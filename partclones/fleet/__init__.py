@@ -1,0 +1,1 @@
+"""Nets, and fleets of clones with a hub."""
