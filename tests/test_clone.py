@@ -155,7 +155,8 @@ class MakeTest(Case):
         self.assertEqual((error.path, error.place), ("g", 1))
         self.refused(BadTree, self.clone.commit, [], {f"p{number}": [] for number in range(9)})
         for error, one, other, name in (
-            (Unknown, "q", "q", "q"), (Unknown, "a1", "q", "q"), (Repeated, "a1", "a1", "a1"), (Unknown, "a5", "a1", "a5"),
+            *[(Unknown, "q", "q", "q"), (Unknown, "a1", "q", "q")],
+            *[(Repeated, "a1", "a1", "a1"), (Unknown, "a5", "a1", "a5")],
         ):
             self.assertEqual(self.refused(error, self.clone.merge, one, other).name, name)
         for names in (("q", "a1", "a1"), ("a1", "q", "a9"), ("a1", "a1", "q"), ("q", "q2", "q3")):

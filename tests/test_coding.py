@@ -108,10 +108,8 @@ class RecordsTest(unittest.TestCase):
 
     def test_more_keys(self):
         records = history_records(example())
-        more = {
-            **records,
-            **{key: ["x", "1"] for key in ("a", "v", "v.", "v.1a", "v.abcdefg", "v.a.b", "vx", "w.a", "tally.a", "made")},
-        }
+        keys = ("a", "v", "v.", "v.1a", "v.abcdefg", "v.a.b", "vx", "w.a", "tally.a", "made")
+        more = {**records, **{key: ["x", "1"] for key in keys}}
         self.assertEqual(history_of(more).facts(), example().facts())
         # A version that is lacking is not there; the others need not refer to it.
         del records["v.m"]

@@ -27,8 +27,9 @@ class Case(unittest.TestCase):
 
     def seen(self):
         """All that can be seen of the fleet."""
-        parties = [self.fleet.clone(letter) for letter in self.fleet.clone_letters()]
-        return [picture(party) for party in [*parties, self.fleet.hub()]], self.fleet.waiting(), self.fleet.full().facts()
+        fleet = self.fleet
+        parties = [fleet.clone(letter) for letter in fleet.clone_letters()]
+        return [picture(party) for party in [*parties, fleet.hub()]], fleet.waiting(), fleet.full().facts()
 
     def refused(self, word, *event):
         before = self.seen()
@@ -66,6 +67,10 @@ class FleetTest(Case):
             self.assertEqual((type(clone), clone.letter, clone.kept()), (Clone, letter, []))
         self.assertEqual((type(self.fleet.hub()), self.fleet.hub().kept()), (Hub, []))
         self.assertIs(type(self.fleet.full()), History)
+
+    def test_disks(self):
+        cells = {who: disk.cells for who, disk in self.fleet._disks.items()}
+        self.assertEqual(cells, {"a": 4000, "b": 4000, "hub": 4000})
 
     def test_parties(self):
         for word in ("c", "hub", "", "ab", "A"):

@@ -59,6 +59,11 @@ class JudgeTest(unittest.TestCase):
         self.assertIs(self.judge(commands=[*self.commands, *more]), True)
         self.assertIs(self.judge(commands=[*more[:3], *self.commands]), True)
 
+    def test_versions_that_are_called_like_words(self):
+        more = [("commit", "ask", (), ()), ("commit", "keep", ("ask",), ()), ("ask", ("under", "ask", "keep"))]
+        self.assertIs(self.judge(commands=[*more, *self.commands]), True)
+        self.assertIs(self.judge(commands=[*self.commands, ("ask", ("show", "c")), ("ask", ("show", "show"))]), False)
+
     def test_the_second_world_has_the_facts_of_the_history(self):
         self.differ(self.second, self.first, self.commands)
         self.assertIs(self.judge(first=self.second, second=self.first), False)

@@ -269,6 +269,16 @@ class LanguageTest(unittest.TestCase):
             self.assertNotIsInstance(node.iter, (ast.Set, ast.SetComp), where)
         for where, node in self.nodes(ast.GeneratorExp):
             self.fail(f"{where}: take a list")
+        for where, node in self.nodes(ast.Set):
+            self.assertFalse(any(isinstance(member, ast.Starred) for member in node.elts), where)
+
+    def test_what_stands_in_calls_with_stars(self):
+        # Beside a star stand only names, attributes and literals.
+        plain = (ast.Name, ast.Attribute, ast.Constant)
+        for where, node in self.nodes(ast.Call):
+            if any(isinstance(part, ast.Starred) for part in node.args):
+                for part in node.args:
+                    self.assertIsInstance(part.value if isinstance(part, ast.Starred) else part, plain, where)
 
     def test_is_stands_beside_none_true_and_false(self):
         for where, node in self.nodes(ast.Compare):

@@ -132,6 +132,19 @@ class PartingTest(unittest.TestCase):
         script = [("commit", "x0", ("a", "b"), ()), ("ask", ("reach", "x0"))]
         self.check(bare(CRISS_CROSS, tuple(sorted(one))), bare(CRISS_CROSS, other), script)
 
+    def test_the_first_roof_by_its_ascending_tuple(self):
+        # The versions are not made in the order of their names.
+        rows = [("y", []), ("z", []), ("a", ["z"]), ("b", ["y"])]
+        one, other = ((("y",), 1),), ((("z",), 1),)
+        self.check(bare(rows, one), bare(rows, other), [("ask", ("reach", "b"))])
+        full = [History(), History()]
+        for history, low in zip(full, "yz"):
+            history.commit("x0", [], {})
+            for name, parents in rows:
+                history.commit(name, parents + ["x0"] * (name == low), {})
+        thin = [History.of(core(history, ["a", "b", "y", "z"])) for history in full]
+        self.check(*thin, [("ask", ("reach", "b"))])
+
     def test_a_fresh_name(self):
         rows = [("x0", []), ("x2", []), ("a", [])]
         script = [("commit", "x1", ("a", "x0", "x2"), ()), ("ask", ("reach", "x1"))]

@@ -178,6 +178,13 @@ class CommitTest(Case):
             for record in (["x"], None):
                 self.assertEqual(self.refused(BadRecord, self.vault.commit, {"b": ["y"], key: record}).key, key)
 
+    def test_known_keys_ascend(self):
+        for key in ("c", "a", "d", "b"):
+            self.vault.commit({key: [key]})
+            self.assertEqual(self.vault.known(), sorted(self.vault.known()))
+        self.vault.commit({"c": ["x"], "a": ["y"]})
+        self.assertEqual(self.vault.known(), ["a", "b", "c", "d"])
+
     def test_records(self):
         disk = Disk(1000)
         vault = Vault.fresh(disk)
@@ -328,6 +335,9 @@ class OpenedTest(Case):
         self.spoilt(Broken, (1, ("root", "2", "19")))
         self.assertEqual(self.spoilt(BadCell, (1, ("root", "2", "20"))).at, 20)
         self.assertEqual(self.spoilt(BadCell, (5, ("-", "a", "77"))).at, 77)
+        # A directory that is none: a key without a number, or with something else.
+        for items in (("-", "a"), ("-", "a", "3", "b"), ("-", "a", "x"), ("-", "a", "03"), ("-", "a", "")):
+            self.spoilt(Broken, (5, items))
         # The root that is not in force is not looked at.
         disk = Disk(20)
         for at, items in enumerate(cells_of(self.disk)):

@@ -134,10 +134,7 @@ class LetterTest(unittest.TestCase):
         fleet, marks = Fleet(2), 0
         for number in range(60):
             who = "ab"[number // 8 % 2]
-            puts = tuple(
-                (f"{path}{number % 7}/dddddd/ffffff", tuple(f"{number}{path}{line} ".ljust(20, "x") for line in range(7)))
-                for path in "hijklmno"
-            )
+            puts = tuple((f"{path}{number % 7}/dddddd/ffffff", self.lines(number, path)) for path in "hijklmno")
             parents = tuple(fleet.clone(who).kept()[-1:]) if number % 7 else ()
             cuts = tuple((path, None) for path, _ in fleet.do(("ask", who, ("show", parents[0])))[1]) if parents else ()
             kept = [put for put in cuts if put[0] not in [path for path, _ in puts]]
@@ -156,6 +153,9 @@ class LetterTest(unittest.TestCase):
                 self.assertEqual(fleet.do(("deliver", fleet.do(("deliver", serial))[1])), ("taken",))
             self.assertEqual(fleet.clone(who).kept(), names)
         self.assertEqual((len(fleet.hub().marks), complaints(fleet)), (960, []))
+
+    def lines(self, number, path):
+        return tuple(f"{number}{path}{line} ".ljust(20, "x") for line in range(7))
 
 
 if __name__ == "__main__":
